@@ -1,0 +1,1 @@
+"""Whole numbers kept by stretches."""
