@@ -8,15 +8,8 @@ import unittest
 from stretchkeeper import stretches
 from stretchkeeper.errors import BadNumber, BadStretch, KeepError
 from stretchkeeper.stretches import has_number, is_stretch, shared, size_of
-from things import HUGE, Hostile, Liar, named, no_numbers, no_stretches
-
-# All stretches with ends from -3 to 3, or without: enough for each way in which two can lie.
-SMALL = [
-    (first, last)
-    for first in [None, *range(-3, 4)]
-    for last in [None, *range(-3, 4)]
-    if first is None or last is None or first <= last
-]
+from refusals import RefusalTest
+from things import HUGE, SMALL, Hostile, Liar, named, no_numbers, no_stretches
 
 # Wider than the small stretches on both sides, so that it tells a missing end from one.
 WINDOW = range(-6, 7)
@@ -27,22 +20,6 @@ def numbers_of(stretch):
     first, last = stretch
     from_first = [n for n in WINDOW if first is None or n >= first]
     return {n for n in from_first if last is None or n <= last}
-
-
-class RefusalTest(unittest.TestCase):
-
-    def assert_refused(self, kind, call, *handed):
-        """Just this kind of refusal comes out, and by no way of another error."""
-        with self.subTest(call.__name__, handed=[named(thing) for thing in handed]):
-            try:
-                call(*handed)
-            except BaseException as error:
-                self.assertIs(type(error), kind)
-                self.assertIsInstance(error, KeepError)
-                self.assertIsInstance(error, ValueError)
-                self.assertIsNone(error.__context__)
-            else:
-                self.fail("nothing was refused")
 
 
 class InterfaceTest(unittest.TestCase):

@@ -1,6 +1,16 @@
-"""Things that the tests hand in: numbers, and what is no number and no stretch."""
+"""Things that the tests hand in: numbers and stretches, and what is no number, stretch, keeper or text."""
+
+from stretchkeeper.keepers import Keeper
 
 HUGE = 10 ** 999
+
+# All stretches with ends from -3 to 3, or without: enough for each way in which two can lie.
+SMALL = [
+    (first, last)
+    for first in [None, *range(-3, 4)]
+    for last in [None, *range(-3, 4)]
+    if first is None or last is None or first <= last
+]
 
 
 class Hostile:
@@ -70,6 +80,35 @@ class OddTuple(tuple):
         return 2
 
 
+class OddText(str):
+    """A text that tells another text when it is split."""
+
+    def split(self, *rest):
+        return ["8"]
+
+
+class LookAlike:
+    """A thing with a keeper's methods that is no keeper."""
+
+    def stretches(self):
+        return [(1, 5)]
+
+    def has(self, number):
+        return True
+
+    def copied(self):
+        return Keeper()
+
+    put = take = keep = turn = gain = lose = meet = part = move = has
+
+
+class OfKeeperKind(Keeper):
+    """A thing of a class made from Keeper, without what a keeper needs."""
+
+    def __init__(self):
+        pass
+
+
 def endless_list():
     """A list that holds itself."""
     rows = [1]
@@ -108,6 +147,24 @@ def no_stretches():
         OfHostileKind(), (OfHostileKind(), 1), (None, OfHostileKind()),
         Liar(tuple), Liar(list), (Liar(int), 3), (3, Liar(int)), (Liar(int), Liar(int)), (OddInt(1), OddInt(2)),
         OddTuple((1, 2)), OddTuple((1, 2, 3)), OddTuple(),
+    ]
+
+
+def no_keepers():
+    """Things of many kinds, none of them a keeper; made anew at each call."""
+    return no_numbers() + [
+        3, HUGE, "1..5", "..", [(1, 5)], ((1, 5),), (1, 5), {(1, 5)}, {"stretches": [(1, 5)]},
+        Keeper, Keeper.stretches, Keeper().stretches, [Keeper()], (Keeper(),), {"keeper": Keeper()},
+        LookAlike(), LookAlike, Liar(Keeper), OfKeeperKind(),
+    ]
+
+
+def no_texts():
+    """Things of many kinds, none of them a text; made anew at each call."""
+    things = [thing for thing in no_numbers() if type(thing) is not str]
+    return things + [
+        3, 0, HUGE, b"1..5", b"", bytearray(b"8"), ["1..5"], ["1..5", "8"], [], ("8",), {"8": "8"}, {"8"},
+        [(1, 5)], (1, 5), str, str.split, Keeper, Keeper(), Liar(str), OddText("8"), OddText(""), OddText("8 9"),
     ]
 
 
